@@ -1,0 +1,1 @@
+"""Floodtree: land under rising water."""

@@ -1,0 +1,116 @@
+"""Floors to test with, and what the document says of them found the long way, without the program."""
+
+import itertools
+import random
+
+TOP = 10 ** 18
+REACHES = (4, 8)
+SIDES = ((-1, 0), (0, -1), (0, 1), (1, 0))
+CORNERS = ((-1, -1), (-1, 1), (1, -1), (1, 1))
+
+COMB = [[0, TOP] * 6 for row in range(12)]
+CHESS = [[(row + column) % 2 for column in range(12)] for row in range(12)]
+
+EDGES = [
+    [[0]],
+    [[TOP]],
+    [[1, 3, 0, 2, 1]],
+    [[1], [3], [0], [2], [1]],
+    [[7, 7, 7, 7]],
+    [[7], [7], [7]],
+    [[0, TOP, 0, TOP]],
+    [[1, 9, 1], [1, 1, 1]],
+    [[9, 1, 9], [2, 5, 0], [9, 3, 9]],
+    [[5, 5, 5], [5, 5, 5], [5, 5, 5]],
+    [[3, 1, 4, 1], [5, 9, 2, 6]],
+    [[3, 1], [4, 1], [5, 9], [2, 6]],
+]
+LARGE = [COMB, CHESS, [[4] * 12 for row in range(12)]]
+
+
+def chance_floors(seed, many, most_rows, most_columns):
+    chance = random.Random(seed)
+    floors = []
+    for turn in range(many):
+        rows = chance.randint(1, most_rows)
+        columns = chance.randint(1, most_columns)
+        heights = chance.choice(([0, 1], [0, 1, 2, 3], [0, 5, TOP], list(range(rows * columns))))
+        floors.append([[chance.choice(heights) for column in range(columns)] for row in range(rows)])
+    return floors
+
+
+def all_small_floors():
+    floors = []
+    for rows, columns in ((1, 5), (5, 1), (2, 3), (3, 2)):
+        for heights in itertools.product((0, 1, 2), repeat=rows * columns):
+            floors.append([list(heights[row * columns:(row + 1) * columns]) for row in range(rows)])
+    return floors
+
+
+def floors_to_walk():
+    return EDGES + chance_floors(1, 60, 5, 5) + all_small_floors()[::5]
+
+
+def large_floors():
+    chance = random.Random(2)
+    mixed = [[[chance.randint(0, most) for column in range(12)] for row in range(12)] for most in (3, 40, TOP)]
+    return LARGE + mixed
+
+
+def heights_to_ask(floor):
+    heights = {height for row in floor for height in row}
+    return sorted({height + step for height in heights for step in (-1, 0, 1)})
+
+
+def cells_of(floor):
+    return list(range(len(floor) * len(floor[0])))
+
+
+def height_at(floor, cell):
+    return [height for row in floor for height in row][cell]
+
+
+def place(floor, cell):
+    return (height_at(floor, cell), cell)
+
+
+def sorted_cells(floor):
+    return sorted(cells_of(floor), key=lambda cell: place(floor, cell))
+
+
+def walk_next(floor, reach, cell):
+    rows, columns = len(floor), len(floor[0])
+    row, column = divmod(cell, columns)
+    steps = SIDES + CORNERS if reach == 8 else SIDES
+    ends = [(row + down, column + right) for down, right in steps]
+    return {r * columns + c for r, c in ends if 0 <= r < rows and 0 <= c < columns}
+
+
+def walk(floor, reach, cell, allowed):
+    """All cells to which ways lead from the cell over the allowed ones, one step at a time."""
+    reached = {cell} & allowed
+    while True:
+        further = {other for one in reached for other in walk_next(floor, reach, one)} & allowed
+        if further <= reached:
+            return reached
+        reached |= further
+
+
+def walk_under(floor, reach, cell, last):
+    allowed = {one for one in cells_of(floor) if place(floor, one) <= place(floor, last)}
+    return walk(floor, reach, cell, allowed)
+
+
+def walk_at(floor, reach, height):
+    """The stretches at a height, each a sorted list, sorted."""
+    left = {one for one in cells_of(floor) if height_at(floor, one) <= height}
+    parts = []
+    while left:
+        part = walk(floor, reach, min(left), left)
+        parts.append(sorted(part))
+        left = left - part
+    return parts
+
+
+def first_of(floor, cells):
+    return min(cells, key=lambda cell: place(floor, cell))

@@ -1,0 +1,149 @@
+"""Promise [2]: kinds of what is told, and that nothing told or handed in is tied to anything else."""
+
+import copy
+import unittest
+
+from floodtree.cells import comes_before, height_of, in_order, neighbours, on_rim, size_of
+from floodtree.lakes import counts_of, homes_of, lakes_at, tree_of
+from floodtree.stretches import stretch_under, stretches_at
+from tests.helper import COMB, REACHES, TOP
+
+FLOORS = [
+    [[1, 3, 0, 2, 1]],
+    [[9, 1, 9], [2, 5, 0], [9, 3, 9]],
+    [[1, 9, 1], [1, 1, 1]],
+    [[3, 1], [4, 1], [5, 9], [2, 6]],
+    [[0, TOP], [TOP, 0]],
+    COMB,
+]
+
+LISTS = {
+    "neighbours": lambda floor, reach: neighbours(size_of(floor), reach, 1),
+    "in_order": lambda floor, reach: in_order(floor),
+    "stretch_under": lambda floor, reach: stretch_under(floor, reach, 0, 1),
+    "no stretch_under": lambda floor, reach: stretch_under(floor, reach, 1, 0),
+    "stretches_at": lambda floor, reach: stretches_at(floor, reach, 3),
+    "no stretches_at": lambda floor, reach: stretches_at(floor, reach, -1),
+    "tree_of": tree_of,
+    "homes_of": homes_of,
+    "lakes_at": lambda floor, reach: lakes_at(floor, reach, 3),
+    "counts_of": counts_of,
+}
+OTHERS = {
+    "size_of": lambda floor, reach: size_of(floor),
+    "on_rim": lambda floor, reach: on_rim(size_of(floor), 1),
+    "height_of": lambda floor, reach: height_of(floor, 1),
+    "comes_before": lambda floor, reach: comes_before(floor, 0, 1),
+}
+
+
+def spoil(told):
+    for part in told:
+        if type(part) is list:
+            spoil(part)
+    told.reverse()
+    told.append("spoilt")
+
+
+def spoil_floor(floor):
+    for row in floor:
+        for column in range(len(row)):
+            row[column] = 77 - column
+    floor.append([5] * len(floor[0]))
+
+
+def plain(told):
+    """True where all is made of just ints, lists, tuples and None."""
+    if type(told) in (list, tuple):
+        return all(plain(part) for part in told)
+    return told is None or type(told) is int
+
+
+class KeptTest(unittest.TestCase):
+    def each_call(self, calls):
+        for name, call in calls.items():
+            for floor in FLOORS:
+                for reach in REACHES:
+                    yield name, call, copy.deepcopy(floor), reach
+
+    def test_the_floor_handed_in_stays(self):
+        for name, call, floor, reach in self.each_call({**LISTS, **OTHERS}):
+            ahead = copy.deepcopy(floor)
+            rows = list(floor)
+            call(floor, reach)
+            self.assertEqual(floor, ahead, name)
+            self.assertTrue(all(one is other for one, other in zip(floor, rows)), name)
+
+    def test_a_told_list_may_be_changed(self):
+        for name, call, floor, reach in self.each_call(LISTS):
+            told = call(floor, reach)
+            kept = copy.deepcopy(told)
+            ahead = copy.deepcopy(floor)
+            spoil(told)
+            self.assertEqual(floor, ahead, name)
+            self.assertEqual(call(floor, reach), kept, name)
+
+    def test_a_told_list_stays_when_the_floor_changes(self):
+        for name, call, floor, reach in self.each_call(LISTS):
+            told = call(floor, reach)
+            kept = copy.deepcopy(told)
+            spoil_floor(floor)
+            call(floor, reach)
+            self.assertEqual(told, kept, name)
+
+    def test_a_changed_floor_is_told_as_it_is_then(self):
+        for name, call, floor, reach in self.each_call({**LISTS, **OTHERS}):
+            call(floor, reach)
+            spoil_floor(floor)
+            self.assertEqual(call(floor, reach), call(copy.deepcopy(floor), reach), name)
+        floor = [[2, 5, 1]]
+        tree_of(floor, 4)
+        floor[0][0] = 0
+        self.assertEqual(tree_of(floor, 4), [(0, None, None), (2, 1, 0)])
+
+    def test_one_floor_is_told_the_same_behind_another_one(self):
+        for name, call, floor, reach in self.each_call({**LISTS, **OTHERS}):
+            told = call(floor, reach)
+            kept = copy.deepcopy(told)
+            for other in FLOORS:
+                for other_reach in REACHES:
+                    call(other, other_reach)
+            self.assertEqual(told, kept, name)
+            self.assertEqual(call(floor, reach), kept, name)
+
+    def test_two_answers_share_no_list(self):
+        for name, call, floor, reach in self.each_call(LISTS):
+            one, other = call(floor, reach), call(floor, reach)
+            kept = copy.deepcopy(other)
+            spoil(one)
+            self.assertEqual(other, kept, name)
+
+
+class KindsTest(unittest.TestCase):
+    def test_lists_of_plain_parts(self):
+        for name, call in LISTS.items():
+            for floor in FLOORS:
+                for reach in REACHES:
+                    told = call(floor, reach)
+                    self.assertIs(type(told), list, name)
+                    self.assertTrue(plain(told), name)
+
+    def test_the_parts_of_lists(self):
+        for floor in FLOORS:
+            for reach in REACHES:
+                self.assertEqual({type(part) for part in stretches_at(floor, reach, 3)}, {list})
+                self.assertEqual({(type(lake), len(lake)) for lake in tree_of(floor, reach)}, {(tuple, 3)})
+                self.assertEqual({(type(pair), len(pair)) for pair in counts_of(floor, reach)}, {(tuple, 2)})
+                self.assertEqual({type(start) for start in homes_of(floor, reach)}, {int})
+
+    def test_the_other_kinds(self):
+        for floor in FLOORS:
+            self.assertIs(type(size_of(floor)), tuple)
+            self.assertTrue(plain(size_of(floor)))
+            self.assertIs(type(height_of(floor, 1)), int)
+            self.assertIs(type(on_rim(size_of(floor), 1)), bool)
+            self.assertIs(type(comes_before(floor, 0, 1)), bool)
+
+
+if __name__ == "__main__":
+    unittest.main()
