@@ -108,7 +108,8 @@ class WorkedFloorsTest(unittest.TestCase):
         for reach in REACHES:
             self.assertEqual(tree_of(COMB, reach), tree)
             self.assertEqual(counts_of(COMB, reach), [(0, 6), (TOP, 1)])
-            self.assertEqual(lakes_at(COMB, reach, TOP - 1), [0, None, 2, None, 4, None, 6, None, 8, None, 10, None] * 12)
+            row = [0, None, 2, None, 4, None, 6, None, 8, None, 10, None]
+            self.assertEqual(lakes_at(COMB, reach, TOP - 1), row * 12)
             self.assertEqual(lakes_at(COMB, reach, TOP), [0] * 144)
 
     def test_somewhat_beyond_the_bounds(self):
