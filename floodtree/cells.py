@@ -31,6 +31,26 @@ def height_of(floor, cell):
     return floor[cell // columns][cell % columns]
 
 
+def all_cells(floor):
+    size = size_of(floor)
+    return list(range(size[0] * size[1]))
+
+
+def heights_by_number(floor):
+    return [height_of(floor, cell) for cell in all_cells(floor)]
+
+
+# Every row is cut out anew, so that no two rows of the floor told are one list.
+def floor_of(size, heights):
+    columns = size[1]
+    return [heights[row * columns:(row + 1) * columns] for row in range(size[0])]
+
+
+# Each height that a cell has, once, rising.
+def heights_in(floor):
+    return sorted(set(heights_by_number(floor)))
+
+
 # Every question of earlier and later goes through this one key, so that none goes by numbers alone.
 def order_key(floor, cell):
     return (height_of(floor, cell), cell)
@@ -45,8 +65,7 @@ def earliest_of(floor, cells):
 
 
 def in_order(floor):
-    size = size_of(floor)
-    return sorted(range(size[0] * size[1]), key=lambda cell: order_key(floor, cell))
+    return sorted(all_cells(floor), key=lambda cell: order_key(floor, cell))
 
 
 # The cells that water at this height covers, from the earliest to the latest.

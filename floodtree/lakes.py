@@ -1,35 +1,52 @@
 """Lakes: where they begin, where they meet, and which one lives on."""
 
-from floodtree.cells import covered_at, earliest_of, height_of, in_order, neighbours, size_of
+from floodtree.cells import all_cells, covered_at, earliest_of, height_of, heights_in, in_order, neighbours, size_of
 
 
-# Rising water keeps the home of each cell that has come (None for the others),
-# and for each lake that has ended, by its start, a tuple (meet, into).
+# For each lake that has ended, by its start, a tuple (meet, into) is kept.
+class Meetings:
+    def __init__(self, floor):
+        self.floor = floor
+        self.ended = {}
+
+    # Into is never rewritten: the lake that lives on by now is found by going on from ended lakes.
+    def living(self, start):
+        here = start
+        while here in self.ended:
+            here = self.ended[here][1]
+        return here
+
+    def let_meet(self, starts, meet):
+        met = [self.living(start) for start in starts]
+        elder = earliest_of(self.floor, met)
+        for start in met:
+            if start != elder:
+                self.ended[start] = (meet, elder)
+        return elder
+
+    def tree(self, starts):
+        return [(start,) + self.ended.get(start, (None, None)) for start in starts]
+
+
+# Rising water keeps the home of each cell that has come, None for the others.
 class Water:
     def __init__(self, floor, reach):
         self.floor = floor
         self.reach = reach
-        self.homes = [None for cell in in_order(floor)]
-        self.ends = {}
+        self.homes = [None for cell in all_cells(floor)]
+        self.meetings = Meetings(floor)
 
-    # A home is never rewritten: the lake in which a cell lies by now is found by going on from ended lakes.
+    # A cell that hasn't come has None for its home, which is no start, and so None is told of it.
     def start_now(self, cell):
-        start = self.homes[cell]
-        while start in self.ends:
-            start = self.ends[start][1]
-        return start
+        return self.meetings.living(self.homes[cell])
 
-    def starts_around(self, cell):
+    def homes_around(self, cell):
         around = neighbours(size_of(self.floor), self.reach, cell)
-        return [self.start_now(other) for other in around if self.homes[other] is not None]
+        return [self.homes[other] for other in around if self.homes[other] is not None]
 
     def let_come(self, cell):
-        starts = self.starts_around(cell)
-        elder = earliest_of(self.floor, starts) if starts else cell
-        self.homes[cell] = elder
-        for start in starts:
-            if start != elder:
-                self.ends[start] = (cell, elder)
+        homes = self.homes_around(cell)
+        self.homes[cell] = self.meetings.let_meet(homes, cell) if homes else cell
 
 
 def water_over(floor, reach, cells):
@@ -42,13 +59,8 @@ def water_over(floor, reach, cells):
 def tree_of(floor, reach):
     order = in_order(floor)
     water = water_over(floor, reach, order)
-    tree = []
-    for cell in order:
-        # Only the cell that begins a lake is its own home.
-        if water.homes[cell] == cell:
-            end = water.ends.get(cell, (None, None))
-            tree.append((cell, end[0], end[1]))
-    return tree
+    # Only the cell that begins a lake is its own home.
+    return water.meetings.tree([cell for cell in order if water.homes[cell] == cell])
 
 
 def homes_of(floor, reach):
@@ -57,8 +69,7 @@ def homes_of(floor, reach):
 
 def lakes_at(floor, reach, height):
     water = water_over(floor, reach, covered_at(floor, height))
-    # A higher cell hasn't come: its home is None, which is no start, and so None is told of it.
-    return [water.start_now(cell) for cell in range(len(water.homes))]
+    return [water.start_now(cell) for cell in all_cells(floor)]
 
 
 def many_up_to(heights, height):
@@ -69,6 +80,5 @@ def counts_of(floor, reach):
     tree = tree_of(floor, reach)
     begins = [height_of(floor, start) for start, meet, into in tree]
     ends = [height_of(floor, meet) for start, meet, into in tree if meet is not None]
-    # Each height of the floor stands once, and a lake that has ended at a height isn't one at it any more.
-    heights = sorted(set([height_of(floor, cell) for cell in in_order(floor)]))
-    return [(height, many_up_to(begins, height) - many_up_to(ends, height)) for height in heights]
+    # A lake that has ended at a height isn't one at it any more.
+    return [(height, many_up_to(begins, height) - many_up_to(ends, height)) for height in heights_in(floor)]

@@ -1,21 +1,34 @@
 """Stretches: the cells that hang together below a last cell or at a height."""
 
-from floodtree.cells import comes_before, covered_at, neighbours, size_of
+from floodtree.cells import comes_before, covered_at, in_order, neighbours, size_of
+
+
+# For each cell of the stretch the next one on a shortest way back, None for the cell itself.
+def ways_back(floor, reach, cell, last):
+    size = size_of(floor)
+    back = {cell: None}
+    waiting = [cell]
+    while waiting:
+        here = waiting.pop(0)
+        for other in neighbours(size, reach, here):
+            if other not in back and not comes_before(floor, last, other):
+                back[other] = here
+                waiting.append(other)
+    return back
 
 
 def stretch_under(floor, reach, cell, last):
     if comes_before(floor, last, cell):
         return []
-    size = size_of(floor)
-    found = {cell: True}
-    waiting = [cell]
-    while waiting:
-        here = waiting.pop()
-        for other in neighbours(size, reach, here):
-            if other not in found and not comes_before(floor, last, other):
-                found[other] = True
-                waiting.append(other)
-    return sorted(found)
+    return sorted(ways_back(floor, reach, cell, last))
+
+
+# The stretch of a cell under the one right ahead of a later cell; none where the later cell isn't later.
+def stretch_ahead_of(floor, reach, cell, later):
+    if not comes_before(floor, cell, later):
+        return []
+    order = in_order(floor)
+    return stretch_under(floor, reach, cell, order[order.index(later) - 1])
 
 
 def stretches_at(floor, reach, height):

@@ -10,6 +10,14 @@ CORNERS = ((-1, -1), (-1, 1), (1, -1), (1, 1))
 
 COMB = [[0, TOP] * 6 for row in range(12)]
 CHESS = [[(row + column) % 2 for column in range(12)] for row in range(12)]
+# Lakes within lakes, shut in on all sides.
+NESTED = [
+    [9, 9, 9, 9, 9, 9, 9],
+    [9, 1, 3, 2, 7, 4, 9],
+    [9, 3, 9, 3, 9, 6, 9],
+    [9, 2, 3, 0, 8, 5, 9],
+    [9, 9, 9, 9, 9, 9, 9],
+]
 
 EDGES = [
     [[0]],
@@ -24,6 +32,8 @@ EDGES = [
     [[5, 5, 5], [5, 5, 5], [5, 5, 5]],
     [[3, 1, 4, 1], [5, 9, 2, 6]],
     [[3, 1], [4, 1], [5, 9], [2, 6]],
+    [[3, 4, 2, 5, 1, 6, 0]],
+    NESTED,
 ]
 LARGE = [COMB, CHESS, [[4] * 12 for row in range(12)]]
 
@@ -86,14 +96,18 @@ def walk_next(floor, reach, cell):
     return {r * columns + c for r, c in ends if 0 <= r < rows and 0 <= c < columns}
 
 
-def walk(floor, reach, cell, allowed):
-    """All cells to which ways lead from the cell over the allowed ones, one step at a time."""
-    reached = {cell} & allowed
+def walk_from(floor, reach, begins, allowed):
+    """All cells to which ways lead from these cells over the allowed ones, one step at a time."""
+    reached = begins & allowed
     while True:
         further = {other for one in reached for other in walk_next(floor, reach, one)} & allowed
         if further <= reached:
             return reached
         reached |= further
+
+
+def walk(floor, reach, cell, allowed):
+    return walk_from(floor, reach, {cell}, allowed)
 
 
 def walk_under(floor, reach, cell, last):
@@ -114,3 +128,37 @@ def walk_at(floor, reach, height):
 
 def first_of(floor, cells):
     return min(cells, key=lambda cell: place(floor, cell))
+
+
+def last_of(floor, cells):
+    return max(cells, key=lambda cell: place(floor, cell))
+
+
+def walk_ahead_of(floor, reach, cell, later):
+    """The stretch of a cell under the one right ahead of a later cell."""
+    allowed = {one for one in cells_of(floor) if place(floor, one) < place(floor, later)}
+    return walk(floor, reach, cell, allowed)
+
+
+def passes_from(floor, reach, one):
+    """The pass from a cell to each cell: the first one, in the order, under which a way leads there."""
+    found = {}
+    for last in sorted_cells(floor):
+        for other in walk_under(floor, reach, one, last):
+            found.setdefault(other, last)
+    return found
+
+
+def rim_of(floor):
+    rows, columns = len(floor), len(floor[0])
+    places = [(cell, *divmod(cell, columns)) for cell in cells_of(floor)]
+    return {cell for cell, row, column in places if row in (0, rows - 1) or column in (0, columns - 1)}
+
+
+def walk_from_rim(floor, reach, height):
+    allowed = {cell for cell in cells_of(floor) if height_at(floor, cell) <= height}
+    return walk_from(floor, reach, rim_of(floor), allowed)
+
+
+def flat(floor):
+    return [height for row in floor for height in row]

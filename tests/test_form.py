@@ -128,6 +128,30 @@ class FormTest(unittest.TestCase):
                 if isinstance(node, ast.Attribute):
                     self.assertIn(node.attr, own | OWN_METHODS, name)
 
+    def test_no_name_is_a_method_in_one_class_and_a_value_in_another(self):
+        methods, kept = set(), set()
+        for name, tree in self.each_tree():
+            for node in ast.walk(tree):
+                if isinstance(node, ast.ClassDef):
+                    methods |= {part.name for part in node.body if isinstance(part, ast.FunctionDef)}
+                elif isinstance(node, ast.Attribute) and isinstance(node.ctx, ast.Store):
+                    kept.add(node.attr)
+        self.assertEqual(methods & kept, set())
+
+    def test_imports_come_from_the_file_that_defines_the_name_and_never_lead_round(self):
+        trees = {"floodtree." + name.removesuffix(".py"): tree for name, tree in self.each_tree()}
+        drawn = {name: set() for name in trees}
+        for name, tree in trees.items():
+            for node in tree.body:
+                if isinstance(node, ast.ImportFrom):
+                    drawn[name].add(node.module)
+                    defined = {part.name for part in trees[node.module].body if hasattr(part, "name")}
+                    self.assertLessEqual({alias.name for alias in node.names}, defined, name)
+        while drawn:
+            free = {name for name in drawn if not drawn[name]}
+            self.assertTrue(free, drawn)
+            drawn = {name: drawn[name] - free for name in drawn if name not in free}
+
 
 if __name__ == "__main__":
     unittest.main()

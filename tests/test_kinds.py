@@ -3,10 +3,14 @@
 import copy
 import unittest
 
+from floodtree.basins import basins_of, falls_of, lines_of, tree_by_lines
 from floodtree.cells import comes_before, height_of, in_order, neighbours, on_rim, size_of
+from floodtree.filling import drains_of, filled, flooded
 from floodtree.lakes import counts_of, homes_of, lakes_at, tree_of
+from floodtree.lives import lives_of, put_away
+from floodtree.passes import pass_between
 from floodtree.stretches import stretch_under, stretches_at
-from tests.helper import COMB, REACHES, TOP
+from tests.helper import COMB, NESTED, REACHES, TOP
 
 FLOORS = [
     [[1, 3, 0, 2, 1]],
@@ -14,8 +18,14 @@ FLOORS = [
     [[1, 9, 1], [1, 1, 1]],
     [[3, 1], [4, 1], [5, 9], [2, 6]],
     [[0, TOP], [TOP, 0]],
+    NESTED,
     COMB,
 ]
+
+
+def bottoms_of(floor, reach):
+    return [cell for cell, fall in enumerate(falls_of(floor, reach)) if fall is None]
+
 
 LISTS = {
     "neighbours": lambda floor, reach: neighbours(size_of(floor), reach, 1),
@@ -28,12 +38,29 @@ LISTS = {
     "homes_of": homes_of,
     "lakes_at": lambda floor, reach: lakes_at(floor, reach, 3),
     "counts_of": counts_of,
+    "way": lambda floor, reach: pass_between(floor, reach, 0, len(floor[0]) * len(floor) - 1)[1],
+    "way of one cell": lambda floor, reach: pass_between(floor, reach, 1, 1)[1],
+    "inside": lambda floor, reach: pass_between(floor, reach, 0, len(floor[0]) * len(floor) - 1)[2],
+    "no inside": lambda floor, reach: pass_between(floor, reach, 1, 1)[2],
+    "filled": filled,
+    "drains_of": drains_of,
+    "flooded": lambda floor, reach: flooded(floor, reach, 3),
+    "none flooded": lambda floor, reach: flooded(floor, reach, -1),
+    "falls_of": falls_of,
+    "basins_of": basins_of,
+    "lines_of": lines_of,
+    "tree_by_lines": lambda floor, reach: tree_by_lines(floor, bottoms_of(floor, reach), lines_of(floor, reach)),
+    "lives_of": lives_of,
+    "put_away none": lambda floor, reach: put_away(floor, reach, 0),
+    "put_away some": lambda floor, reach: put_away(floor, reach, 2),
+    "put_away all": lambda floor, reach: put_away(floor, reach, TOP),
 }
 OTHERS = {
     "size_of": lambda floor, reach: size_of(floor),
     "on_rim": lambda floor, reach: on_rim(size_of(floor), 1),
     "height_of": lambda floor, reach: height_of(floor, 1),
     "comes_before": lambda floor, reach: comes_before(floor, 0, 1),
+    "pass_between": lambda floor, reach: pass_between(floor, reach, 0, 1),
 }
 
 
@@ -118,6 +145,37 @@ class KeptTest(unittest.TestCase):
             spoil(one)
             self.assertEqual(other, kept, name)
 
+    def test_no_two_rows_of_a_told_floor_are_one_list(self):
+        shared = [[4, 4, 4]] * 3
+        for told in (filled(shared, 4), put_away(shared, 4, 0), put_away(shared, 4, TOP)):
+            self.assertEqual(told, shared)
+            told[0][0] = 77
+            self.assertEqual(told[1:], [[4, 4, 4], [4, 4, 4]])
+        self.assertEqual(shared, [[4, 4, 4]] * 3)
+
+    def test_bottoms_and_lines_handed_in_stay(self):
+        for floor in FLOORS:
+            for reach in REACHES:
+                bottoms, lines = bottoms_of(floor, reach)[::-1], lines_of(floor, reach)[::-1]
+                ahead = (list(bottoms), list(lines))
+                told = tree_by_lines(floor, bottoms, lines)
+                self.assertEqual((bottoms, lines), ahead)
+                kept = list(told)
+                spoil(told)
+                self.assertEqual((bottoms, lines), ahead)
+                self.assertEqual(tree_by_lines(floor, bottoms, lines), kept)
+
+    def test_a_told_tree_stays_when_bottoms_and_lines_change(self):
+        for floor in FLOORS:
+            for reach in REACHES:
+                bottoms, lines = bottoms_of(floor, reach), lines_of(floor, reach)
+                told = tree_by_lines(floor, bottoms, lines)
+                kept = list(told)
+                bottoms.clear()
+                lines.clear()
+                self.assertEqual(told, kept)
+                self.assertEqual(tree_by_lines(floor, bottoms_of(floor, reach), lines_of(floor, reach)), kept)
+
 
 class KindsTest(unittest.TestCase):
     def test_lists_of_plain_parts(self):
@@ -135,6 +193,23 @@ class KindsTest(unittest.TestCase):
                 self.assertEqual({(type(lake), len(lake)) for lake in tree_of(floor, reach)}, {(tuple, 3)})
                 self.assertEqual({(type(pair), len(pair)) for pair in counts_of(floor, reach)}, {(tuple, 2)})
                 self.assertEqual({type(start) for start in homes_of(floor, reach)}, {int})
+                self.assertEqual({type(bottom) for bottom in basins_of(floor, reach)}, {int})
+                self.assertEqual({(type(pair), len(pair)) for pair in lives_of(floor, reach)}, {(tuple, 2)})
+                self.assertEqual({type(row) for row in filled(floor, reach)}, {list})
+                self.assertEqual({type(row) for row in put_away(floor, reach, 2)}, {list})
+                lines = lines_of(floor, reach)
+                self.assertTrue(all((type(line), len(line)) == (tuple, 3) for line in lines))
+                tree = tree_by_lines(floor, bottoms_of(floor, reach), lines)
+                self.assertEqual({(type(lake), len(lake)) for lake in tree}, {(tuple, 3)})
+
+    def test_a_pass_is_a_tuple_of_a_cell_and_two_lists(self):
+        for floor in FLOORS:
+            for reach in REACHES:
+                for one, other in ((0, 1), (1, 0), (1, 1)):
+                    told = pass_between(floor, reach, one, other)
+                    self.assertIs(type(told), tuple)
+                    self.assertEqual([type(part) for part in told], [int, list, list])
+                    self.assertTrue(plain(told))
 
     def test_the_other_kinds(self):
         for floor in FLOORS:
