@@ -36,6 +36,11 @@ def all_cells(floor):
     return list(range(size[0] * size[1]))
 
 
+def is_cell(floor, number):
+    size = size_of(floor)
+    return 0 <= number < size[0] * size[1]
+
+
 def heights_by_number(floor):
     return [height_of(floor, cell) for cell in all_cells(floor)]
 

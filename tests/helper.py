@@ -1,12 +1,15 @@
-"""Floors to test with, and what the document says of them found the long way, without the program."""
+"""Floors to test with, what the document says of them found the long way, without the program, and refusals."""
 
 import itertools
 import random
+
+from floodtree.errors import FloodError, NoCell, NoFloor, NoRow
 
 TOP = 10 ** 18
 REACHES = (4, 8)
 SIDES = ((-1, 0), (0, -1), (0, 1), (1, 0))
 CORNERS = ((-1, -1), (-1, 1), (1, -1), (1, 1))
+LETTERS = "abcdefghijklmnopqrstuvwxyz"
 
 COMB = [[0, TOP] * 6 for row in range(12)]
 CHESS = [[(row + column) % 2 for column in range(12)] for row in range(12)]
@@ -115,15 +118,20 @@ def walk_under(floor, reach, cell, last):
     return walk(floor, reach, cell, allowed)
 
 
-def walk_at(floor, reach, height):
-    """The stretches at a height, each a sorted list, sorted."""
-    left = {one for one in cells_of(floor) if height_at(floor, one) <= height}
+def parts_of(floor, reach, cells):
+    """The parts of these cells in which all hang together, each a sorted list, sorted."""
+    left = set(cells)
     parts = []
     while left:
         part = walk(floor, reach, min(left), left)
         parts.append(sorted(part))
         left = left - part
     return parts
+
+
+def walk_at(floor, reach, height):
+    """The stretches at a height, each a sorted list, sorted."""
+    return parts_of(floor, reach, {one for one in cells_of(floor) if height_at(floor, one) <= height})
 
 
 def first_of(floor, cells):
@@ -162,3 +170,81 @@ def walk_from_rim(floor, reach, height):
 
 def flat(floor):
     return [height for row in floor for height in row]
+
+
+def tree_by_walking(floor, reach):
+    """The tree as [11] has it, from stretches alone."""
+    order = sorted_cells(floor)
+    tree = []
+    for start in order:
+        firsts = [first_of(floor, walk_under(floor, reach, start, last)) for last in order[order.index(start):]]
+        if firsts[0] == start:
+            ends = [(last, first) for last, first in zip(order[order.index(start):], firsts) if first != start]
+            tree.append((start,) + (ends[0] if ends else (None, None)))
+    return tree
+
+
+def lakes_by_walking(floor, reach, height):
+    """For each cell the earliest one of its stretch at a height, None for the higher ones."""
+    lakes = [None for cell in cells_of(floor)]
+    for part in walk_at(floor, reach, height):
+        for cell in part:
+            lakes[cell] = first_of(floor, part)
+    return lakes
+
+
+def levels_by_walking(floor, reach):
+    """For each cell the least height of the floor at which a way leads to it from the rim."""
+    levels = {}
+    for height in sorted(set(flat(floor))):
+        for cell in walk_from_rim(floor, reach, height):
+            levels.setdefault(cell, height)
+    return [levels[cell] for cell in cells_of(floor)]
+
+
+def picture_by_walking(floor, reach, height):
+    parts = sorted(walk_at(floor, reach, height), key=lambda part: place(floor, first_of(floor, part)))
+    signs = ["#" for cell in cells_of(floor)]
+    for number, part in enumerate(parts):
+        for cell in part:
+            signs[cell] = LETTERS[number] if number < 26 else "+"
+    columns = len(floor[0])
+    return ["".join(signs[row * columns:(row + 1) * columns]) for row in range(len(floor))]
+
+
+def heights_in_bounds(floor):
+    return sorted({0, TOP} | {height for height in heights_to_ask(floor) if 0 <= height <= TOP})
+
+
+def some(heights, many):
+    """About so many of them, evenly spread, the first and the last one among them."""
+    return heights[:-1][::1 + len(heights) // many] + heights[-1:]
+
+
+def text_of(floor):
+    return "\n".join(" ".join(str(height) for height in row) for row in floor)
+
+
+def with_height(floor, cell, height):
+    """Another floor, with one cell's height changed."""
+    changed = [list(row) for row in floor]
+    changed[cell // len(floor[0])][cell % len(floor[0])] = height
+    return changed
+
+
+def chance_changes(seed, floor, many):
+    """Cells with the heights that they get: heights of the floor, ones next to these, the least, the greatest."""
+    chance = random.Random(seed)
+    heights = heights_in_bounds(floor)
+    return [(chance.choice(cells_of(floor)), chance.choice(heights)) for turn in range(many)]
+
+
+def refused(case, refusal, call, *handed):
+    """The error of a call that is refused: of this one class of refusals, and of no other one."""
+    with case.assertRaises(refusal, msg=handed) as taken:
+        call(*handed)
+    case.assertIsInstance(taken.exception, FloodError)
+    case.assertIsInstance(taken.exception, ValueError)
+    for other in {NoCell, NoRow, NoFloor} - {refusal}:
+        case.assertNotIsInstance(taken.exception, other, handed)
+    return taken.exception

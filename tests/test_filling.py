@@ -2,22 +2,13 @@ import unittest
 
 from floodtree.filling import drains_of, filled, flooded
 from tests.helper import (
-    CHESS, COMB, EDGES, NESTED, REACHES, TOP, cells_of, flat, floors_to_walk, heights_to_ask, large_floors, rim_of,
-    walk_from_rim, walk_next,
+    CHESS, COMB, EDGES, NESTED, REACHES, TOP, cells_of, flat, floors_to_walk, heights_to_ask, large_floors,
+    levels_by_walking, rim_of, walk_from_rim, walk_next,
 )
 
 SPILL = [[9, 9, 9, 9, 9], [9, 1, 6, 2, 5], [9, 9, 9, 9, 9]]
 LEAK = [[9, 9, 0], [9, 1, 9], [9, 9, 9], [9, 2, 9], [9, 8, 9]]
 BOWL = [[TOP] * 12] + [[TOP] + [0] * 10 + [TOP] for row in range(10)] + [[TOP] * 12]
-
-
-def levels_by_walking(floor, reach):
-    """For each cell the least height of the floor at which a way leads to it from the rim."""
-    levels = {}
-    for height in sorted(set(flat(floor))):
-        for cell in walk_from_rim(floor, reach, height):
-            levels.setdefault(cell, height)
-    return [levels[cell] for cell in cells_of(floor)]
 
 
 class WorkedFloorsTest(unittest.TestCase):

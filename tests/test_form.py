@@ -98,6 +98,25 @@ class FormTest(unittest.TestCase):
                 if isinstance(node, ast.Expr) and node is not tree.body[0]:
                     self.assertIsInstance(node.value, ast.Call, name)
 
+    def test_texts_hold_no_percent_sign_and_f_strings_plain_names(self):
+        for name, tree in self.each_tree():
+            for node in ast.walk(tree):
+                if isinstance(node, ast.Constant) and isinstance(node.value, str):
+                    self.assertNotIn("%", node.value, name)
+                if isinstance(node, ast.FormattedValue):
+                    self.assertIsInstance(node.value, ast.Name, name)
+                    self.assertIsNone(node.format_spec, name)
+                    self.assertIn(node.conversion, (-1, ord("r")), name)
+
+    def test_values_at_the_top_are_plain(self):
+        for name, tree in self.each_tree():
+            for node in tree.body:
+                if isinstance(node, ast.Assign):
+                    value = ast.literal_eval(node.value)
+                    parts = [part for part in ast.walk(node.value) if isinstance(part, (ast.List, ast.Dict))]
+                    self.assertLessEqual(len(parts), 1, name)
+                    self.assertIsInstance(value, (int, str, list, tuple, dict, type(None)), name)
+
     def test_functions(self):
         for name, tree in self.each_tree():
             for node in ast.walk(tree):

@@ -7,9 +7,12 @@ from floodtree.basins import basins_of, falls_of, lines_of, tree_by_lines
 from floodtree.cells import comes_before, height_of, in_order, neighbours, on_rim, size_of
 from floodtree.filling import drains_of, filled, flooded
 from floodtree.lakes import counts_of, homes_of, lakes_at, tree_of
+from floodtree.land import Land
 from floodtree.lives import lives_of, put_away
 from floodtree.passes import pass_between
+from floodtree.peaks import high_stretches, peaks_of, turned
 from floodtree.stretches import stretch_under, stretches_at
+from floodtree.texts import picture
 from tests.helper import COMB, NESTED, REACHES, TOP
 
 FLOORS = [
@@ -54,6 +57,13 @@ LISTS = {
     "put_away none": lambda floor, reach: put_away(floor, reach, 0),
     "put_away some": lambda floor, reach: put_away(floor, reach, 2),
     "put_away all": lambda floor, reach: put_away(floor, reach, TOP),
+    "turned": lambda floor, reach: turned(floor),
+    "peaks_of": peaks_of,
+    "high_stretches": lambda floor, reach: high_stretches(floor, reach, 3),
+    "no high_stretches": lambda floor, reach: high_stretches(floor, reach, TOP + 1),
+    "floor_now": lambda floor, reach: Land(floor, reach).floor_now(),
+    "lakes": lambda floor, reach: Land(floor, reach).lakes(),
+    "levels": lambda floor, reach: Land(floor, reach).levels(),
 }
 OTHERS = {
     "size_of": lambda floor, reach: size_of(floor),
@@ -61,6 +71,13 @@ OTHERS = {
     "height_of": lambda floor, reach: height_of(floor, 1),
     "comes_before": lambda floor, reach: comes_before(floor, 0, 1),
     "pass_between": lambda floor, reach: pass_between(floor, reach, 0, 1),
+    "lake": lambda floor, reach: Land(floor, reach).lake(1, 3),
+    "many_at": lambda floor, reach: Land(floor, reach).many_at(3),
+}
+# Lists of texts, and so not of the plain parts of the others.
+DRAWN = {
+    "picture": lambda floor, reach: picture(floor, reach, 3),
+    "picture of nothing": lambda floor, reach: picture(floor, reach, -1),
 }
 
 
@@ -94,7 +111,7 @@ class KeptTest(unittest.TestCase):
                     yield name, call, copy.deepcopy(floor), reach
 
     def test_the_floor_handed_in_stays(self):
-        for name, call, floor, reach in self.each_call({**LISTS, **OTHERS}):
+        for name, call, floor, reach in self.each_call({**LISTS, **OTHERS, **DRAWN}):
             ahead = copy.deepcopy(floor)
             rows = list(floor)
             call(floor, reach)
@@ -102,7 +119,7 @@ class KeptTest(unittest.TestCase):
             self.assertTrue(all(one is other for one, other in zip(floor, rows)), name)
 
     def test_a_told_list_may_be_changed(self):
-        for name, call, floor, reach in self.each_call(LISTS):
+        for name, call, floor, reach in self.each_call({**LISTS, **DRAWN}):
             told = call(floor, reach)
             kept = copy.deepcopy(told)
             ahead = copy.deepcopy(floor)
@@ -111,7 +128,7 @@ class KeptTest(unittest.TestCase):
             self.assertEqual(call(floor, reach), kept, name)
 
     def test_a_told_list_stays_when_the_floor_changes(self):
-        for name, call, floor, reach in self.each_call(LISTS):
+        for name, call, floor, reach in self.each_call({**LISTS, **DRAWN}):
             told = call(floor, reach)
             kept = copy.deepcopy(told)
             spoil_floor(floor)
@@ -119,7 +136,7 @@ class KeptTest(unittest.TestCase):
             self.assertEqual(told, kept, name)
 
     def test_a_changed_floor_is_told_as_it_is_then(self):
-        for name, call, floor, reach in self.each_call({**LISTS, **OTHERS}):
+        for name, call, floor, reach in self.each_call({**LISTS, **OTHERS, **DRAWN}):
             call(floor, reach)
             spoil_floor(floor)
             self.assertEqual(call(floor, reach), call(copy.deepcopy(floor), reach), name)
@@ -129,7 +146,7 @@ class KeptTest(unittest.TestCase):
         self.assertEqual(tree_of(floor, 4), [(0, None, None), (2, 1, 0)])
 
     def test_one_floor_is_told_the_same_behind_another_one(self):
-        for name, call, floor, reach in self.each_call({**LISTS, **OTHERS}):
+        for name, call, floor, reach in self.each_call({**LISTS, **OTHERS, **DRAWN}):
             told = call(floor, reach)
             kept = copy.deepcopy(told)
             for other in FLOORS:
@@ -139,7 +156,7 @@ class KeptTest(unittest.TestCase):
             self.assertEqual(call(floor, reach), kept, name)
 
     def test_two_answers_share_no_list(self):
-        for name, call, floor, reach in self.each_call(LISTS):
+        for name, call, floor, reach in self.each_call({**LISTS, **DRAWN}):
             one, other = call(floor, reach), call(floor, reach)
             kept = copy.deepcopy(other)
             spoil(one)
@@ -147,7 +164,9 @@ class KeptTest(unittest.TestCase):
 
     def test_no_two_rows_of_a_told_floor_are_one_list(self):
         shared = [[4, 4, 4]] * 3
-        for told in (filled(shared, 4), put_away(shared, 4, 0), put_away(shared, 4, TOP)):
+        land = Land(shared)
+        floors = (filled(shared, 4), put_away(shared, 4, 0), put_away(shared, 4, TOP), turned(shared))
+        for told in floors + (land.floor_now(), land.levels()):
             self.assertEqual(told, shared)
             told[0][0] = 77
             self.assertEqual(told[1:], [[4, 4, 4], [4, 4, 4]])
@@ -197,6 +216,10 @@ class KindsTest(unittest.TestCase):
                 self.assertEqual({(type(pair), len(pair)) for pair in lives_of(floor, reach)}, {(tuple, 2)})
                 self.assertEqual({type(row) for row in filled(floor, reach)}, {list})
                 self.assertEqual({type(row) for row in put_away(floor, reach, 2)}, {list})
+                self.assertEqual({type(row) for row in turned(floor)}, {list})
+                self.assertEqual({(type(lake), len(lake)) for lake in peaks_of(floor, reach)}, {(tuple, 3)})
+                self.assertEqual({type(part) for part in high_stretches(floor, reach, 0)}, {list})
+                self.assertEqual({type(row) for row in picture(floor, reach, 3)}, {str})
                 lines = lines_of(floor, reach)
                 self.assertTrue(all((type(line), len(line)) == (tuple, 3) for line in lines))
                 tree = tree_by_lines(floor, bottoms_of(floor, reach), lines)

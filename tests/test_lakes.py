@@ -2,26 +2,14 @@ import unittest
 
 from floodtree.lakes import counts_of, homes_of, lakes_at, tree_of
 from tests.helper import (
-    COMB, REACHES, TOP, cells_of, first_of, floors_to_walk, height_at, heights_to_ask, large_floors,
-    place, sorted_cells, walk_at, walk_next, walk_under,
+    COMB, REACHES, TOP, cells_of, first_of, floors_to_walk, height_at, heights_to_ask, lakes_by_walking, large_floors,
+    place, sorted_cells, tree_by_walking, walk_at, walk_next, walk_under,
 )
 
 ROW = [[1, 3, 0, 2, 1]]
 CROSS = [[9, 1, 9], [2, 5, 0], [9, 3, 9]]
 BRIEF = [[1, 9, 1], [1, 1, 1]]
 LEVEL = [[4] * 12 for row in range(12)]
-
-
-def tree_by_walking(floor, reach):
-    """The tree as [11] has it, from stretches alone."""
-    order = sorted_cells(floor)
-    tree = []
-    for start in order:
-        firsts = [first_of(floor, walk_under(floor, reach, start, last)) for last in order[order.index(start):]]
-        if firsts[0] == start:
-            ends = [(last, first) for last, first in zip(order[order.index(start):], firsts) if first != start]
-            tree.append((start,) + (ends[0] if ends else (None, None)))
-    return tree
 
 
 def lakes_by_tree(floor, tree, home, height):
@@ -148,12 +136,11 @@ class WalkedFloorsTest(unittest.TestCase):
     def check_heights(self, floor, reach, heights):
         tree, homes = tree_of(floor, reach), homes_of(floor, reach)
         for height in heights:
-            lakes = [None for cell in cells_of(floor)]
-            for part in walk_at(floor, reach, height):
-                for cell in part:
-                    lakes[cell] = first_of(floor, part)
-                    self.assertEqual(lakes_by_tree(floor, tree, homes[cell], height), lakes[cell])
+            lakes = lakes_by_walking(floor, reach, height)
             self.assertEqual(lakes_at(floor, reach, height), lakes, (floor, reach, height))
+            for cell in cells_of(floor):
+                if lakes[cell] is not None:
+                    self.assertEqual(lakes_by_tree(floor, tree, homes[cell], height), lakes[cell])
 
     def test_the_lakes_at_every_height(self):
         for floor, reach in self.each_floor():
